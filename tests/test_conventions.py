@@ -1,0 +1,191 @@
+"""Points 1, 2 and 3: names, arguments, new lists, and what must not end in an error."""
+
+import copy
+import importlib
+import inspect
+import unittest
+
+from tests import helpers
+from tests.helpers import CLASHING, MISSING, S
+from topmatches import errors
+from topmatches.order import children_of, is_before, parent_of, reason_for, words_above, words_below
+from topmatches.screens import are_screens, find_clash, is_clash, is_screen, known_words
+from topmatches.words import answer_of, fits, is_beginning, is_word
+
+WORDS = ["car", "dog", "cat", "dot"]
+# Each call that this stage can make: the function, its arguments by name, in their order, and the result.
+CALLS = [
+    (is_word, {"value": "car"}, True),
+    (is_beginning, {"value": ""}, True),
+    (answer_of, {"dictionary": WORDS, "beginning": "c", "limit": 1}, ["car"]),
+    (answer_of, {"dictionary": WORDS, "beginning": "", "limit": 20}, WORDS),
+    (fits, {"dictionary": WORDS, "screens": S}, True),
+    (is_screen, {"value": S[0]}, True),
+    (are_screens, {"value": S}, True),
+    (known_words, {"screens": S}, sorted(WORDS)),
+    (find_clash, {"screens": S}, None),
+    (find_clash, {"screens": MISSING}, ("missing", 0, 1, "xa")),
+    (is_clash, {"screens": CLASHING, "value": ("order", 0, 1, "dog", "car")}, True),
+    (is_clash, {"screens": CLASHING, "value": ["order"]}, False),
+    (is_before, {"screens": S, "word": "car", "other": "dog"}, True),
+    (is_before, {"screens": S, "word": "dog", "other": "car"}, False),
+    (reason_for, {"screens": S, "word": "car", "other": "cat"}, 0),
+    (words_above, {"screens": S, "word": "dot"}, ["car", "dog"]),
+    (words_below, {"screens": S, "word": "dog"}, ["cat", "dot"]),
+    (parent_of, {"screens": S, "word": "dot"}, "dog"),
+    (children_of, {"screens": S, "word": "dog"}, ["cat", "dot"]),
+    (children_of, {"screens": S, "word": None}, ["car"]),
+    (children_of, {"screens": S}, ["car"]),
+]
+PARAMETERS = {
+    "words": {
+        "is_word": "(value)", "is_beginning": "(value)", "answer_of": "(dictionary, beginning, limit)",
+        "fits": "(dictionary, screens)",
+    },
+    "screens": {
+        "is_screen": "(value)", "are_screens": "(value)", "known_words": "(screens)", "find_clash": "(screens)",
+        "is_clash": "(screens, value)",
+    },
+    "order": {
+        "is_before": "(screens, word, other)", "reason_for": "(screens, word, other)",
+        "words_above": "(screens, word)", "words_below": "(screens, word)", "parent_of": "(screens, word)",
+        "children_of": "(screens, word=None)",
+    },
+}
+# The kinds of values that a function can be passed, by the name of its parameter, for wrong calls.
+WRONG = {
+    "dictionary": [("car",), ["car", "car"], [1]],
+    "beginning": [None, "C", b""],
+    "limit": [True, 0, 21],
+    "screens": [(), [("c", 2, ["dog"])], [("", 1, [])] * 21, CLASHING],
+    "word": ["", "cow", 1],
+    "other": [None, "cow", ["car"]],
+}
+
+
+class InterfaceTest(unittest.TestCase):
+    def test_names_and_parameters(self):
+        for module, functions in PARAMETERS.items():
+            found = importlib.import_module("topmatches." + module)
+            for name, parameters in functions.items():
+                with self.subTest(name=name):
+                    function = getattr(found, name)
+                    self.assertEqual(str(inspect.signature(function)), parameters)
+                    self.assertEqual(function.__module__, "topmatches." + module)
+
+    def test_every_function_is_called_here(self):
+        names = {function.__name__ for function, _, _ in CALLS}
+        self.assertEqual(names, {name for functions in PARAMETERS.values() for name in functions})
+
+    def test_by_position_and_by_name(self):
+        for function, arguments, result in CALLS:
+            with self.subTest(function=function, arguments=arguments):
+                self.assertEqual(function(*arguments.values()), result)
+                self.assertEqual(function(**arguments), result)
+                self.assertEqual(function(**dict(reversed(list(arguments.items())))), result)
+
+    def test_results_have_exactly_their_kind(self):
+        for function, arguments, result in CALLS:
+            self.assertIs(type(function(**arguments)), type(result))
+
+
+class ArgumentsTest(unittest.TestCase):
+    def test_arguments_stay_as_they_were(self):
+        for function, arguments, _ in CALLS:
+            before = copy.deepcopy(arguments)
+            function(**arguments)
+            self.assertEqual(arguments, before)
+
+    def test_arguments_stay_as_they_were_if_an_error_is_raised(self):
+        raised = 0
+        for function, arguments, _ in CALLS:
+            for name in arguments:
+                for value in WRONG.get(name, []):
+                    wrong = dict(arguments, **{name: value})
+                    before = copy.deepcopy(wrong)
+                    try:
+                        function(**wrong)
+                    except errors.TopMatchesError:
+                        raised += 1
+                    self.assertEqual(wrong, before)
+        self.assertGreater(raised, 60)
+
+    def test_the_first_error_that_applies(self):
+        kinds = {
+            "dictionary": errors.InvalidDictionary, "beginning": errors.InvalidBeginning,
+            "limit": errors.InvalidLimit, "screens": errors.InvalidScreens, "word": errors.UnknownWord,
+            "other": errors.UnknownWord,
+        }
+        for function, arguments, _ in CALLS:
+            names = [name for name in arguments if name != "value"]
+            for at, name in enumerate(names):
+                wrong = dict(arguments, **{later: WRONG[later][0] for later in names[at:]})
+                with self.subTest(function=function, wrong=wrong), self.assertRaises(kinds[name]) as caught:
+                    function(**wrong)
+                self.assertIs(type(caught.exception), kinds[name])
+
+    def test_equal_calls_return_equal_results(self):
+        for function, arguments, _ in CALLS:
+            first = function(**arguments)
+            for _ in range(3):
+                self.assertEqual(function(**copy.deepcopy(arguments)), first)
+        for screens in [CLASHING * 10, MISSING * 10, S + CLASHING + MISSING]:
+            self.assertEqual(find_clash(screens), find_clash(copy.deepcopy(screens)))
+
+    def test_lists_are_new(self):
+        for function, arguments, result in CALLS:
+            found = function(**arguments)
+            if isinstance(found, list):
+                for value in arguments.values():
+                    self.assertIsNot(found, value)
+                found.append("other")
+                found.reverse()
+                self.assertEqual(function(**arguments), result)
+
+    def test_a_new_list_also_if_it_equals_an_argument(self):
+        dictionary = ["car"]
+        found = answer_of(dictionary, "", 20)
+        found.clear()
+        self.assertEqual(dictionary, ["car"])
+        screens = [("", 2, ["car", "cat"])]
+        for found in [known_words(screens), words_below(screens, "car"), words_above(screens, "cat")]:
+            found.clear()
+        self.assertEqual(screens, [("", 2, ["car", "cat"])])
+
+
+class LimitsTest(unittest.TestCase):
+    def test_the_largest_arguments(self):
+        for screens in [helpers.wide_screens(), helpers.deep_screens()]:
+            words = [word for screen in screens for word in screen[2]]
+            self.assertEqual([len(screens), len(set(words)), max(len(word) for word in words)], [20, 400, 30])
+            self.assertIs(fits(words, screens), True)
+            self.assertEqual(known_words(screens), sorted(words))
+            self.assertIsNone(find_clash(screens))
+            self.assertEqual(words_above(screens, words[0]), [])
+            self.assertEqual(children_of(screens, words[0]), [words[1]])
+            self.assertIs(is_before(screens, words[0], words[1]), True)
+
+    def test_larger_arguments_raise_no_error(self):
+        long = "a" * 5000
+        screens = [(long, 20, [long + "b", long]), ("a" * 4999, 1, [long + "b"])]
+        self.assertIs(is_word(long), True)
+        self.assertEqual(answer_of([long], long, 1), [long])
+        self.assertEqual(words_above(screens, long), [long + "b"])
+
+    def test_large_integers(self):
+        for value in [10 ** 999, -10 ** 999, 10 ** 1000 - 1]:
+            self.assertIs(is_word(value), False)
+            self.assertIs(is_screen(("", value, [])), False)
+            self.assertIs(is_clash(CLASHING, ("order", value, value, "dog", "car")), False)
+            self.assertRaises(errors.InvalidLimit, answer_of, [], "", value)
+
+    def test_deeply_nested_values(self):
+        value = helpers.nested(39)
+        for function in [is_word, is_beginning, is_screen, are_screens]:
+            self.assertIs(function(value), False)
+        self.assertIs(is_clash(S, value), False)
+        self.assertRaises(errors.InvalidScreens, find_clash, value)
+
+
+if __name__ == "__main__":
+    unittest.main()

@@ -1,0 +1,39 @@
+"""The examples of the document, word for word, each with names of its own."""
+
+import doctest
+import os
+import unittest
+
+EXAMPLES = os.path.join(os.path.dirname(__file__), "examples.txt")
+NAMES = [
+    "is_word", "is_beginning", "answer_of", "fits",
+    "is_screen", "are_screens", "known_words", "find_clash", "is_clash",
+    "is_before", "reason_for", "words_above", "words_below", "parent_of", "children_of",
+]
+
+
+def blocks():
+    with open(EXAMPLES, encoding="ascii") as file:
+        return file.read().split("\n\n")
+
+
+class ExamplesTest(unittest.TestCase):
+    def test_every_function_has_an_example(self):
+        text = "\n".join(blocks())
+        for name in NAMES:
+            self.assertIn(name + "(", text)
+
+    def test_examples(self):
+        parser = doctest.DocTestParser()
+        for number, block in enumerate(blocks()):
+            with self.subTest(block=block):
+                example = parser.get_doctest(block, {}, f"example {number}", EXAMPLES, 0)
+                self.assertGreater(len(example.examples), 1)
+                said = []
+                runner = doctest.DocTestRunner(verbose=False, optionflags=doctest.DONT_ACCEPT_TRUE_FOR_1)
+                result = runner.run(example, out=said.append)
+                self.assertEqual(result.failed, 0, "".join(said))
+
+
+if __name__ == "__main__":
+    unittest.main()

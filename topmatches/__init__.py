@@ -1,0 +1,1 @@
+"""Topmatches: the ranking behind lists of suggestions."""
