@@ -127,3 +127,24 @@ def deep_screens():
     """20 screens of 20 words each: 400 known words in one row, the highest first; the longest have 30 letters."""
     letters = "bcdefghijklmnopqrstu"
     return [("a" * size, 20, ["a" * size + one * (30 - size) for one in letters]) for size in range(20)]
+
+
+def branching_screens():
+    """20 screens of 20 words each: 20 words in one row, and below the last one 19 rows of 19 words each."""
+    letters = "abcdefghijklmnopqrst"
+    found = [("", 20, [one + "z" for one in letters])]
+    return found + [(one, 20, [one + "z"] + [one + other * 29 for other in letters[1:]]) for one in letters[1:]]
+
+
+NOT_NUMBERS = [
+    None, True, False, -1, -2, BIG, -BIG, 10 ** 1000 - 1, "", "0", "1", b"0", b"", [], [0], (), (0,), {}, {0}, {0: 0},
+    object(), AlwaysEqual(), int, nested(39), range(1),
+]
+
+
+def check_raises(test, error, function, *arguments, **named):
+    """Check that the call raises an error of exactly this class, and return that error."""
+    with test.assertRaises(error) as caught:
+        function(*arguments, **named)
+    test.assertIs(type(caught.exception), error)
+    return caught.exception

@@ -8,7 +8,11 @@ import unittest
 from tests import helpers
 from tests.helpers import CLASHING, MISSING, S
 from topmatches import errors
+from topmatches.answers import can_answer, deciding_screen, dictionary_with, sure_answer, two_dictionaries
+from topmatches.lists import answer_index, count_answers, nth_answer
 from topmatches.order import children_of, is_before, parent_of, reason_for, words_above, words_below
+from topmatches.places import place_range, possible_beginning, sure_beginning
+from topmatches.rankings import count_rankings, is_ranking, nth_ranking, ranking_index
 from topmatches.screens import are_screens, find_clash, is_clash, is_screen, known_words
 from topmatches.words import answer_of, fits, is_beginning, is_word
 
@@ -36,6 +40,34 @@ CALLS = [
     (children_of, {"screens": S, "word": "dog"}, ["cat", "dot"]),
     (children_of, {"screens": S, "word": None}, ["car"]),
     (children_of, {"screens": S}, ["car"]),
+    (count_rankings, {"screens": S[1:]}, 6),
+    (is_ranking, {"screens": S, "value": ["car", "dog", "dot", "cat"]}, True),
+    (is_ranking, {"screens": S, "value": ["dog", "car", "dot", "cat"]}, False),
+    (nth_ranking, {"screens": S, "number": 1}, ["car", "dog", "dot", "cat"]),
+    (nth_ranking, {"screens": [("", 2, WORDS[:2])], "number": 0}, WORDS[:2]),
+    (ranking_index, {"screens": S, "ranking": ["car", "dog", "dot", "cat"]}, 1),
+    (can_answer, {"screens": S, "beginning": "c", "limit": 3, "shown": ["car", "cat", "cab"]}, True),
+    (can_answer, {"screens": S, "beginning": "c", "limit": 3, "shown": ["car"]}, False),
+    (dictionary_with, {"screens": [("", 3, ["b", "a"])], "beginning": "a", "limit": 1, "shown": ["a"]}, ["b", "a"]),
+    (dictionary_with, {"screens": S, "beginning": "d", "limit": 1, "shown": ["dot"]}, None),
+    (sure_answer, {"screens": S, "beginning": "", "limit": 2}, ["car", "dog"]),
+    (sure_answer, {"screens": S, "beginning": "dox", "limit": 5}, []),
+    (sure_answer, {"screens": S, "beginning": "c", "limit": 3}, None),
+    (deciding_screen, {"screens": S, "beginning": "c", "limit": 2}, 1),
+    (deciding_screen, {"screens": S, "beginning": "c", "limit": 3}, None),
+    (two_dictionaries, {"screens": S, "beginning": "c", "limit": 3}, copy.deepcopy(two_dictionaries(S, "c", 3))),
+    (two_dictionaries, {"screens": S, "beginning": "c", "limit": 2}, None),
+    (place_range, {"screens": S, "beginning": "", "word": "cat"}, (2, None)),
+    (place_range, {"screens": S, "beginning": "", "word": "cat", "only_known": False}, (2, None)),
+    (place_range, {"screens": S, "beginning": "", "word": "cat", "only_known": True}, (2, 3)),
+    (sure_beginning, {"screens": S, "word": "dot", "limit": 2}, "do"),
+    (sure_beginning, {"screens": [("car", 2, ["cart", "car"])], "word": "car", "limit": 1}, None),
+    (possible_beginning, {"screens": S, "word": "dot", "limit": 2}, "d"),
+    (possible_beginning, {"screens": [("car", 2, ["cart", "car"])], "word": "car", "limit": 1}, None),
+    (count_answers, {"screens": S[1:], "beginning": "", "limit": 2}, 4),
+    (nth_answer, {"screens": S[1:], "beginning": "", "limit": 2, "number": 3}, ["dog", "dot"]),
+    (nth_answer, {"screens": S, "beginning": "x", "limit": 2, "number": 0}, []),
+    (answer_index, {"screens": S[1:], "beginning": "", "limit": 2, "shown": ["dog", "car"]}, 2),
 ]
 PARAMETERS = {
     "words": {
@@ -51,6 +83,23 @@ PARAMETERS = {
         "words_above": "(screens, word)", "words_below": "(screens, word)", "parent_of": "(screens, word)",
         "children_of": "(screens, word=None)",
     },
+    "rankings": {
+        "count_rankings": "(screens)", "is_ranking": "(screens, value)", "nth_ranking": "(screens, number)",
+        "ranking_index": "(screens, ranking)",
+    },
+    "answers": {
+        "can_answer": "(screens, beginning, limit, shown)", "dictionary_with": "(screens, beginning, limit, shown)",
+        "sure_answer": "(screens, beginning, limit)", "deciding_screen": "(screens, beginning, limit)",
+        "two_dictionaries": "(screens, beginning, limit)",
+    },
+    "places": {
+        "place_range": "(screens, beginning, word, *, only_known=False)",
+        "sure_beginning": "(screens, word, limit)", "possible_beginning": "(screens, word, limit)",
+    },
+    "lists": {
+        "count_answers": "(screens, beginning, limit)", "nth_answer": "(screens, beginning, limit, number)",
+        "answer_index": "(screens, beginning, limit, shown)",
+    },
 }
 # The kinds of values that a function can be passed, by the name of its parameter, for wrong calls.
 WRONG = {
@@ -60,7 +109,17 @@ WRONG = {
     "screens": [(), [("c", 2, ["dog"])], [("", 1, [])] * 21, CLASHING],
     "word": ["", "cow", 1],
     "other": [None, "cow", ["car"]],
+    "number": [-1, True, helpers.BIG],
+    "ranking": [None, ["dot", "dog"], ("car", "dog", "dot", "cat")],
+    "shown": [None, ["car", "car"], ["z" * 30, "a"], ("car",)],
 }
+
+
+def lists_in(value):
+    """All lists in what a call returned."""
+    if isinstance(value, list):
+        return [value]
+    return [row for row in value if isinstance(row, list)] if isinstance(value, tuple) else []
 
 
 class InterfaceTest(unittest.TestCase):
@@ -80,7 +139,9 @@ class InterfaceTest(unittest.TestCase):
     def test_by_position_and_by_name(self):
         for function, arguments, result in CALLS:
             with self.subTest(function=function, arguments=arguments):
-                self.assertEqual(function(*arguments.values()), result)
+                named = {name: arguments[name] for name in arguments if name == "only_known"}
+                by_position = [arguments[name] for name in arguments if name != "only_known"]
+                self.assertEqual(function(*by_position, **named), result)
                 self.assertEqual(function(**arguments), result)
                 self.assertEqual(function(**dict(reversed(list(arguments.items())))), result)
 
@@ -114,15 +175,15 @@ class ArgumentsTest(unittest.TestCase):
         kinds = {
             "dictionary": errors.InvalidDictionary, "beginning": errors.InvalidBeginning,
             "limit": errors.InvalidLimit, "screens": errors.InvalidScreens, "word": errors.UnknownWord,
-            "other": errors.UnknownWord,
+            "other": errors.UnknownWord, "number": errors.InvalidNumber, "ranking": errors.NotRanking,
         }
         for function, arguments, _ in CALLS:
-            names = [name for name in arguments if name != "value"]
+            kinds["shown"] = errors.NotAnswer if function is answer_index else errors.InvalidList
+            names = [name for name in arguments if name not in ("value", "only_known")]
             for at, name in enumerate(names):
                 wrong = dict(arguments, **{later: WRONG[later][0] for later in names[at:]})
-                with self.subTest(function=function, wrong=wrong), self.assertRaises(kinds[name]) as caught:
-                    function(**wrong)
-                self.assertIs(type(caught.exception), kinds[name])
+                with self.subTest(function=function, wrong=wrong):
+                    helpers.check_raises(self, kinds[name], function, **wrong)
 
     def test_equal_calls_return_equal_results(self):
         for function, arguments, _ in CALLS:
@@ -134,12 +195,11 @@ class ArgumentsTest(unittest.TestCase):
 
     def test_lists_are_new(self):
         for function, arguments, result in CALLS:
-            found = function(**arguments)
-            if isinstance(found, list):
-                for value in arguments.values():
-                    self.assertIsNot(found, value)
+            before = copy.deepcopy(arguments)
+            for found in lists_in(function(**arguments)):
                 found.append("other")
                 found.reverse()
+                self.assertEqual(arguments, before)
                 self.assertEqual(function(**arguments), result)
 
     def test_a_new_list_also_if_it_equals_an_argument(self):

@@ -9,6 +9,10 @@ NAMES = [
     "is_word", "is_beginning", "answer_of", "fits",
     "is_screen", "are_screens", "known_words", "find_clash", "is_clash",
     "is_before", "reason_for", "words_above", "words_below", "parent_of", "children_of",
+    "count_rankings", "is_ranking", "nth_ranking", "ranking_index",
+    "can_answer", "dictionary_with", "sure_answer", "deciding_screen", "two_dictionaries",
+    "place_range", "sure_beginning", "possible_beginning",
+    "count_answers", "nth_answer", "answer_index",
 ]
 
 

@@ -4,56 +4,27 @@ import unittest
 from itertools import product
 
 from tests import helpers
+from tests.universe import SCREENS, SMALL, WORDS, some_rows
 from topmatches.order import children_of, is_before, parent_of, reason_for, words_above, words_below
 from topmatches.screens import find_clash, is_clash, known_words
 from topmatches.words import fits
-
-WORDS = ["a", "ab", "abc", "b"]
-DICTIONARIES = helpers.sequences(WORDS)
-SCREENS = helpers.all_screens(WORDS, ["", "a", "ab", "b", "c"], [1, 2, 3])
-
-
-def mask_of(test):
-    """The dictionaries for which the test holds, as the bits of a number."""
-    return sum(1 << number for number, dictionary in enumerate(DICTIONARIES) if test(dictionary))
 
 
 def stands_before(dictionary, word, other):
     return word in dictionary and other in dictionary and dictionary.index(word) < dictionary.index(other)
 
 
-SHOWN_BY = [mask_of(lambda dictionary, one=one: helpers.shows(dictionary, one)) for one in SCREENS]
 BEFORE = {
-    (word, other): mask_of(lambda dictionary, word=word, other=other: stands_before(dictionary, word, other))
+    (word, other): SMALL.mask_of(lambda dictionary, word=word, other=other: stands_before(dictionary, word, other))
     for word in WORDS for other in WORDS
 }
-
-
-def some_rows(size, count):
-    """`count` rows of `size` numbers of screens, spread over all such rows, the same in each run."""
-    total = len(SCREENS) ** size
-    for number in range(count):
-        rest = number * (total // count) + number * number * 7919
-        row = []
-        for _ in range(size):
-            row.append(rest % len(SCREENS))
-            rest //= len(SCREENS)
-        yield row
-
-
-def fitting(row):
-    """The dictionaries that show all screens of the row, as the bits of a number."""
-    mask = (1 << len(DICTIONARIES)) - 1
-    for number in row:
-        mask &= SHOWN_BY[number]
-    return mask
 
 
 class ClashTest(unittest.TestCase):
     def check(self, row):
         screens = [SCREENS[number] for number in row]
         found = find_clash(screens)
-        if fitting(row):
+        if SMALL.fitting(row):
             self.assertIsNone(found, screens)
         else:
             self.assertIs(is_clash(screens, found), True)
@@ -76,13 +47,14 @@ class ClashTest(unittest.TestCase):
     def test_three_screens_that_agree_in_pairs(self):
         # Without a clash of two screens there is none of three: the order never goes round in a circle.
         agreeing = [
-            [other for other, mask in enumerate(SHOWN_BY) if mask & SHOWN_BY[number]] for number in range(len(SCREENS))
+            [other for other, mask in enumerate(SMALL.shown_by) if mask & SMALL.shown_by[number]]
+            for number in range(len(SCREENS))
         ]
         for one in range(0, len(SCREENS), 4):
             for other in agreeing[one]:
                 for third in agreeing[one]:
                     if third in agreeing[other]:
-                        self.assertTrue(fitting([one, other, third]))
+                        self.assertTrue(SMALL.fitting([one, other, third]))
 
     def test_is_clash_is_exactly_the_definition(self):
         values = [("missing", i, k, word) for i in range(3) for k in range(3) for word in WORDS + ["c"]]
@@ -96,13 +68,13 @@ class ClashTest(unittest.TestCase):
     def test_fits(self):
         for row in some_rows(2, 400):
             screens = [SCREENS[number] for number in row]
-            mask = mask_of(lambda dictionary, screens=screens: fits(dictionary, screens))
-            self.assertEqual(mask, fitting(row))
+            mask = SMALL.mask_of(lambda dictionary, screens=screens: fits(dictionary, screens))
+            self.assertEqual(mask, SMALL.fitting(row))
 
 
 class OrderTest(unittest.TestCase):
     def check(self, row):
-        mask = fitting(row)
+        mask = SMALL.fitting(row)
         if not mask:
             return
         screens = [SCREENS[number] for number in row]
@@ -142,7 +114,7 @@ class OrderTest(unittest.TestCase):
 
     def test_some_larger_lists(self):
         # A list of screens that one dictionary shows is never without a dictionary, however long it is.
-        for number, dictionary in enumerate(DICTIONARIES):
+        for number, dictionary in enumerate(SMALL.dictionaries):
             shown = [at for at, screen in enumerate(SCREENS) if helpers.shows(dictionary, screen)]
             for step in range(1, 5):
                 self.check(shown[number % step::step])

@@ -12,6 +12,8 @@ BUILTINS = {
     "list", "tuple", "dict", "set", "isinstance", "ord", "repr", "any", "all", "divmod", "super", "property",
     "ValueError", "TypeError", "KeyError", "IndexError", "NotImplemented",
 }
+# What L2 lets a file import from outside of the package, as far as the package does.
+LIBRARY = {"math": {"comb", "factorial"}}
 NODES = (
     ast.Global, ast.AsyncFunctionDef, ast.AsyncFor, ast.AsyncWith, ast.Await, ast.Div, ast.MatMult, ast.Import,
 )
@@ -64,11 +66,14 @@ class LanguageTest(unittest.TestCase):
             reached[name] = set()
             for node in imported(tree):
                 self.assertEqual(node.level, 0)
+                names = {alias.name for alias in node.names}
+                if names <= LIBRARY.get(node.module, set()):
+                    continue
                 package, _, module = node.module.partition(".")
                 self.assertEqual(package, "topmatches")
                 self.assertIn(module + ".py", self.sources)
                 defined = {getattr(part, "name", None) for part in self.trees[module + ".py"].body}
-                self.assertLessEqual({alias.name for alias in node.names}, defined)
+                self.assertLessEqual(names, defined)
                 reached[name].add(module + ".py")
         for _ in reached:
             for name in reached:

@@ -1,7 +1,9 @@
 """Checks that raise the error for a value that is not of its kind."""
 
-from topmatches.errors import InvalidBeginning, InvalidDictionary, InvalidLimit, InvalidScreens
-from topmatches.kinds import valid_beginning, valid_dictionary, valid_limit, valid_screens
+from topmatches.errors import (
+    InvalidBeginning, InvalidDictionary, InvalidLimit, InvalidNumber, InvalidScreens, UnknownWord,
+)
+from topmatches.kinds import valid_beginning, valid_dictionary, valid_index, valid_limit, valid_screens
 
 
 def check_dictionary(value):
@@ -26,3 +28,15 @@ def check_screens(value):
     """Raise InvalidScreens if the value is not screens."""
     if not valid_screens(value):
         raise InvalidScreens("screens are a list of at most 20 screens")
+
+
+def check_known(known, word):
+    """Raise UnknownWord if the word is not one of the known words."""
+    if not isinstance(word, str) or word not in known:
+        raise UnknownWord("no screen shows this word")
+
+
+def check_number(number, many):
+    """Raise InvalidNumber if the number is not that of one of `many` things, numbered from 0."""
+    if not valid_index(number, many):
+        raise InvalidNumber("there is nothing with this number")

@@ -1,6 +1,6 @@
 """Screens, the words that they show, and how two of them clash."""
 
-from topmatches.checks import check_screens
+from topmatches.checks import check_beginning, check_limit, check_screens
 from topmatches.errors import ScreensClash
 from topmatches.kinds import valid_index, valid_screen, valid_screens
 
@@ -18,21 +18,13 @@ def are_screens(value):
 def known_words(screens):
     """Return the ascending list of the words that the screens show."""
     check_screens(screens)
-    return sorted({word for screen in screens for word in screen[2]})
+    return shown_words(screens)
 
 
 def find_clash(screens):
     """Return a clash of the screens, or None if there is none."""
     check_screens(screens)
-    for i, one in enumerate(screens):
-        for k, other in enumerate(screens):
-            for word in other[2]:
-                if _misses(one, word):
-                    return ("missing", i, k, word)
-            pair = _swapped_words(one, other)
-            if pair is not None:
-                return ("order", i, k, *pair)
-    return None
+    return first_clash(screens)
 
 
 def is_clash(screens, value):
@@ -56,6 +48,34 @@ def check_no_clash(screens):
     clash = find_clash(screens)
     if clash is not None:
         raise ScreensClash(clash)
+
+
+def check_question(screens, beginning, limit):
+    """Raise the first error that applies if this is not a question about screens without a clash."""
+    check_no_clash(screens)
+    check_beginning(beginning)
+    check_limit(limit)
+
+
+# The functions below take lists of more than 20 screens, too: those of a caller and one more.
+
+
+def shown_words(screens):
+    """Return the ascending list of the words that the screens show."""
+    return sorted({word for screen in screens for word in screen[2]})
+
+
+def first_clash(screens):
+    """Return a clash of the screens, or None if there is none."""
+    for i, one in enumerate(screens):
+        for k, other in enumerate(screens):
+            for word in other[2]:
+                if _misses(one, word):
+                    return ("missing", i, k, word)
+            pair = _swapped_words(one, other)
+            if pair is not None:
+                return ("order", i, k, *pair)
+    return None
 
 
 def put_before(screen, word):
