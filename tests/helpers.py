@@ -77,6 +77,13 @@ def shows(dictionary, screen):
     return answer(dictionary, beginning, limit) == shown
 
 
+def is_dictionary(value):
+    return (
+        type(value) is list and all(type(word) is str and word.isalpha() and word.islower() for word in value)
+        and len(set(value)) == len(value)
+    )
+
+
 def sequences(words):
     """All lists of different ones of the words."""
     return [list(row) for size in range(len(words) + 1) for row in permutations(words, size)]

@@ -11,13 +11,6 @@ from topmatches.answers import can_answer, deciding_screen, dictionary_with, sur
 LETTERS = "abcdefghijklmnopqrstuvwxyz"
 
 
-def is_dictionary(value):
-    return (
-        type(value) is list and all(type(word) is str and word.isalpha() and word.islower() for word in value)
-        and len(set(value)) == len(value)
-    )
-
-
 def decides(screen, beginning, limit):
     """Whether the screen decides them, as point 8 defines it."""
     own, own_limit, shown = screen
@@ -28,7 +21,7 @@ def decides(screen, beginning, limit):
 
 class Checks(unittest.TestCase):
     def check_fits(self, dictionary, screens):
-        self.assertTrue(is_dictionary(dictionary), dictionary)
+        self.assertTrue(helpers.is_dictionary(dictionary), dictionary)
         for screen in screens:
             self.assertTrue(shows(dictionary, screen), (dictionary, screen))
 

@@ -9,15 +9,19 @@ from tests import helpers
 from tests.helpers import CLASHING, MISSING, S
 from topmatches import errors
 from topmatches.answers import can_answer, deciding_screen, dictionary_with, sure_answer, two_dictionaries
+from topmatches.console import Console
 from topmatches.lists import answer_index, count_answers, nth_answer
+from topmatches.notebooks import Notebook
 from topmatches.order import children_of, is_before, parent_of, reason_for, words_above, words_below
 from topmatches.places import place_range, possible_beginning, sure_beginning
 from topmatches.rankings import count_rankings, is_ranking, nth_ranking, ranking_index
+from topmatches.reducing import is_implied, reduced, say_same, telling_dictionary
 from topmatches.screens import are_screens, find_clash, is_clash, is_screen, known_words
+from topmatches.texts import format_screen, format_screens, parse_screen, parse_screens
 from topmatches.words import answer_of, fits, is_beginning, is_word
 
 WORDS = ["car", "dog", "cat", "dot"]
-# Each call that this stage can make: the function, its arguments by name, in their order, and the result.
+# Calls of each function: the function, its arguments by name, in their order, and the result.
 CALLS = [
     (is_word, {"value": "car"}, True),
     (is_beginning, {"value": ""}, True),
@@ -68,6 +72,18 @@ CALLS = [
     (nth_answer, {"screens": S[1:], "beginning": "", "limit": 2, "number": 3}, ["dog", "dot"]),
     (nth_answer, {"screens": S, "beginning": "x", "limit": 2, "number": 0}, []),
     (answer_index, {"screens": S[1:], "beginning": "", "limit": 2, "shown": ["dog", "car"]}, 2),
+    (is_implied, {"screens": S, "index": 0}, False),
+    (is_implied, {"screens": S + S[:1], "index": 3}, True),
+    (reduced, {"screens": S + S}, [0, 1, 2]),
+    (say_same, {"screens": S, "other": S + S}, True),
+    (say_same, {"screens": S, "other": S[1:]}, False),
+    (telling_dictionary, {"screens": S, "other": S[::-1]}, None),
+    (telling_dictionary, {"screens": S, "other": S[1:]}, telling_dictionary(S, S[1:])),
+    (format_screen, {"screen": S[0]}, "- 2 car dog"),
+    (parse_screen, {"text": "- 2 car dog"}, S[0]),
+    (format_screens, {"screens": S[1:]}, "c 2 car cat\ndo 3 dog dot"),
+    (parse_screens, {"text": "c 2 car cat\ndo 3 dog dot"}, S[1:]),
+    (parse_screens, {"text": ""}, []),
 ]
 PARAMETERS = {
     "words": {
@@ -100,7 +116,25 @@ PARAMETERS = {
         "count_answers": "(screens, beginning, limit)", "nth_answer": "(screens, beginning, limit, number)",
         "answer_index": "(screens, beginning, limit, shown)",
     },
+    "reducing": {
+        "is_implied": "(screens, index)", "reduced": "(screens)", "say_same": "(screens, other)",
+        "telling_dictionary": "(screens, other)",
+    },
+    "texts": {
+        "format_screen": "(screen)", "parse_screen": "(text)", "format_screens": "(screens)", "parse_screens": "(text)",
+    },
 }
+# The methods that the document lists for each class, and its properties.
+METHODS = {
+    Notebook: {
+        "__init__": "(self, *screens)", "add": "(self, beginning, limit, shown)", "drop": "(self, index)",
+        "undo": "(self)", "ask": "(self, beginning, limit)", "copy_of": "(self)", "__len__": "(self)",
+        "__eq__": "(self, other)",
+    },
+    Console: {"__init__": "(self)", "execute": "(self, line)"},
+}
+PROPERTIES = ["screens_now", "words_now", "rankings_now"]
+TWO_LISTS = [say_same, telling_dictionary]
 # The kinds of values that a function can be passed, by the name of its parameter, for wrong calls.
 WRONG = {
     "dictionary": [("car",), ["car", "car"], [1]],
@@ -112,14 +146,18 @@ WRONG = {
     "number": [-1, True, helpers.BIG],
     "ranking": [None, ["dot", "dog"], ("car", "dog", "dot", "cat")],
     "shown": [None, ["car", "car"], ["z" * 30, "a"], ("car",)],
+    "index": [None, -1, 20, True],
+    "screen": [None, ["", 2, []], ("", 1, ["car", "dog"])],
+    "text": [None, ["- 2"], "- 21", "x"],
 }
 
 
 def lists_in(value):
-    """All lists in what a call returned."""
-    if isinstance(value, list):
-        return [value]
-    return [row for row in value if isinstance(row, list)] if isinstance(value, tuple) else []
+    """All lists in what a call returned, the inner ones first."""
+    if not isinstance(value, (list, tuple)):
+        return []
+    found = [row for part in value for row in lists_in(part)]
+    return found + [value] if isinstance(value, list) else found
 
 
 class InterfaceTest(unittest.TestCase):
@@ -131,6 +169,16 @@ class InterfaceTest(unittest.TestCase):
                     function = getattr(found, name)
                     self.assertEqual(str(inspect.signature(function)), parameters)
                     self.assertEqual(function.__module__, "topmatches." + module)
+
+    def test_methods_stand_in_their_class(self):
+        for found, methods in METHODS.items():
+            for name, parameters in methods.items():
+                with self.subTest(name=name):
+                    self.assertIn(name, vars(found))
+                    self.assertEqual(str(inspect.signature(getattr(found, name))), parameters)
+        for name in PROPERTIES:
+            self.assertIsInstance(vars(Notebook)[name], property)
+        self.assertEqual([Notebook.__module__, Console.__module__], ["topmatches.notebooks", "topmatches.console"])
 
     def test_every_function_is_called_here(self):
         names = {function.__name__ for function, _, _ in CALLS}
@@ -175,10 +223,12 @@ class ArgumentsTest(unittest.TestCase):
         kinds = {
             "dictionary": errors.InvalidDictionary, "beginning": errors.InvalidBeginning,
             "limit": errors.InvalidLimit, "screens": errors.InvalidScreens, "word": errors.UnknownWord,
-            "other": errors.UnknownWord, "number": errors.InvalidNumber, "ranking": errors.NotRanking,
+            "number": errors.InvalidNumber, "ranking": errors.NotRanking, "index": errors.InvalidIndex,
+            "screen": errors.InvalidScreen, "text": errors.InvalidText,
         }
         for function, arguments, _ in CALLS:
             kinds["shown"] = errors.NotAnswer if function is answer_index else errors.InvalidList
+            kinds["other"] = errors.InvalidScreens if function in TWO_LISTS else errors.UnknownWord
             names = [name for name in arguments if name not in ("value", "only_known")]
             for at, name in enumerate(names):
                 wrong = dict(arguments, **{later: WRONG[later][0] for later in names[at:]})

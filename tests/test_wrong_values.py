@@ -1,4 +1,4 @@
-"""The errors of the modules rankings, answers, places and lists: which one is raised first, and its class."""
+"""The errors of the modules rankings, answers, places, lists and reducing: which comes first, and its class."""
 
 import unittest
 
@@ -9,6 +9,7 @@ from topmatches.answers import can_answer, deciding_screen, dictionary_with, sur
 from topmatches.lists import answer_index, count_answers, nth_answer
 from topmatches.places import place_range, possible_beginning, sure_beginning
 from topmatches.rankings import count_rankings, is_ranking, nth_ranking, ranking_index
+from topmatches.reducing import is_implied, reduced, say_same, telling_dictionary
 from topmatches.screens import is_clash
 
 CLASHES = [
@@ -18,6 +19,8 @@ CLASHES = [
 ]
 NO_SCREENS = ("screens", errors.InvalidScreens, helpers.NOT_SCREEN_LISTS)
 CLASH = ("screens", errors.ScreensClash, CLASHES)
+OTHER = ("other", errors.InvalidScreens, helpers.NOT_SCREEN_LISTS)
+OTHER_CLASH = ("other", errors.ScreensClash, CLASHES)
 BEGINNING = ("beginning", errors.InvalidBeginning, helpers.NOT_BEGINNINGS)
 LIMIT = ("limit", errors.InvalidLimit, helpers.NOT_LIMITS)
 WORD = ("word", errors.UnknownWord, helpers.NOT_WORDS + ["cow", "ca", "cars", "xa", "c" * 30])
@@ -47,6 +50,10 @@ FUNCTIONS = [
         BEGINNING, LIMIT, ("number", errors.InvalidNumber, helpers.NOT_NUMBERS + [1, 2, 20]),
     ]),
     (answer_index, {"beginning": "c", "limit": 2, "shown": ["car", "cat"]}, [BEGINNING, LIMIT, ANSWER]),
+    (is_implied, {"index": 0}, [("index", errors.InvalidIndex, helpers.NOT_NUMBERS + [3, 4, 20])]),
+    (reduced, {}, []),
+    (say_same, {"other": S[1:]}, [OTHER, OTHER_CLASH]),
+    (telling_dictionary, {"other": S[1:]}, [OTHER, OTHER_CLASH]),
 ]
 
 

@@ -99,3 +99,20 @@ def larger_screens(number):
         limit = chance.choice([1, 1, 2, 3])
         found.append((beginning, limit, helpers.answer(dictionary, beginning, limit)))
     return found
+
+
+def with_new_words():
+    """For each beginning of the screens, all dictionaries of the words and of one that begins so and is never shown.
+
+    Other dictionaries show no more: what tells two lists of screens apart stands already in these.
+    """
+    return [Universe(helpers.sequences(WORDS + [beginning + "z"])) for beginning in ["", "a", "ab", "b", "c"]]
+
+
+def agreeing_rows(step, sizes):
+    """Rows of numbers of screens that one dictionary shows, of these sizes, for every `step`-th dictionary."""
+    for number, dictionary in enumerate(SMALL.dictionaries[::step]):
+        shown = [at for at, screen in enumerate(SCREENS) if helpers.shows(dictionary, screen)]
+        chance = random.Random(number)
+        for size in sizes:
+            yield chance.choices(shown, k=size)

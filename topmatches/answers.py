@@ -1,8 +1,7 @@
 """Answers: which ones dictionaries that fit can have, and which one all of them have."""
 
-from topmatches.errors import InvalidList
-from topmatches.kinds import valid_screen
-from topmatches.screens import check_question, first_clash, shown_words
+from topmatches.checks import check_asked
+from topmatches.screens import check_no_clash, check_question, first_clash, shown_words
 from topmatches.trees import some_ranking
 from topmatches.words import first_matches
 
@@ -11,11 +10,9 @@ LETTERS = "abcdefghijklmnopqrstuvwxyz"
 
 def can_answer(screens, beginning, limit, shown):
     """Return whether some dictionary that fits has this answer."""
-    check_question(screens, beginning, limit)
-    asked = (beginning, limit, shown)
-    if not valid_screen(asked):
-        raise InvalidList("no box can show this for the beginning and the limit")
-    return first_clash([*screens, asked]) is None
+    check_no_clash(screens)
+    check_asked(beginning, limit, shown)
+    return first_clash([*screens, (beginning, limit, shown)]) is None
 
 
 def dictionary_with(screens, beginning, limit, shown):

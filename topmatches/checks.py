@@ -1,9 +1,12 @@
 """Checks that raise the error for a value that is not of its kind."""
 
 from topmatches.errors import (
-    InvalidBeginning, InvalidDictionary, InvalidLimit, InvalidNumber, InvalidScreens, UnknownWord,
+    InvalidBeginning, InvalidDictionary, InvalidIndex, InvalidLimit, InvalidList, InvalidNumber, InvalidScreens,
+    UnknownWord,
 )
-from topmatches.kinds import valid_beginning, valid_dictionary, valid_index, valid_limit, valid_screens
+from topmatches.kinds import (
+    valid_beginning, valid_dictionary, valid_index, valid_limit, valid_screen, valid_screens,
+)
 
 
 def check_dictionary(value):
@@ -24,6 +27,14 @@ def check_limit(value):
         raise InvalidLimit("a limit is an integer from 1 to 20")
 
 
+def check_asked(beginning, limit, shown):
+    """Raise the first error that applies if the three values do not make up a screen."""
+    check_beginning(beginning)
+    check_limit(limit)
+    if not valid_screen((beginning, limit, shown)):
+        raise InvalidList("no box can show this for the beginning and the limit")
+
+
 def check_screens(value):
     """Raise InvalidScreens if the value is not screens."""
     if not valid_screens(value):
@@ -34,6 +45,12 @@ def check_known(known, word):
     """Raise UnknownWord if the word is not one of the known words."""
     if not isinstance(word, str) or word not in known:
         raise UnknownWord("no screen shows this word")
+
+
+def check_index(index, count):
+    """Raise InvalidIndex if this is not the number of one of `count` screens."""
+    if not valid_index(index, count):
+        raise InvalidIndex("there is no screen with this number")
 
 
 def check_number(number, many):

@@ -14,6 +14,11 @@ from topmatches.words import fits
 def count_rankings(screens):
     """Return the number of rankings."""
     check_no_clash(screens)
+    return number_of_rankings(screens)
+
+
+def number_of_rankings(screens):
+    """Return the number of rankings of screens that are known to have no clash."""
     above = above_known(screens)
     return _count_orders(_divisors(above), children_among(above)[None], len(above))
 

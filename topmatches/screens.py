@@ -57,6 +57,12 @@ def check_question(screens, beginning, limit):
     check_limit(limit)
 
 
+def copied_screen(screen):
+    """Return a copy of what is known to be a screen."""
+    beginning, limit, shown = screen
+    return (beginning, limit, list(shown))
+
+
 # The functions below take lists of more than 20 screens, too: those of a caller and one more.
 
 

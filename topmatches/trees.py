@@ -35,10 +35,13 @@ def above_known(screens):
 
 def children_among(above):
     """Return, for each word and for None, the words whose parent it is, in the order of the given table."""
-    children = {word: [] for word in above}
+    children = {}
+    for word in above:
+        children[word] = []
     children[None] = []
     for word, row in above.items():
-        children[row[-1] if row else None].append(word)
+        parent = row[-1] if row else None
+        children[parent].append(word)
     return children
 
 
